@@ -4,6 +4,7 @@ import (
 	"errors"
 	"fmt"
 	"math"
+	"runtime/debug"
 	"strings"
 	"testing"
 
@@ -28,6 +29,16 @@ type told struct {
 	inner error
 }
 
+// alike: are they one error? Those that can't be compared, rows, are held against one another by their places.
+func alike(a, b error) bool {
+	x, ok := a.(rowOf)
+	y, too := b.(rowOf)
+	if ok && too {
+		return len(x) == len(y) && &x[0] == &y[0]
+	}
+	return a == b
+}
+
 // hold asks everything of an error, twice.
 func hold(t *testing.T, name string, err error, want told) {
 	t.Helper()
@@ -39,7 +50,7 @@ func hold(t *testing.T, name string, err error, want told) {
 		if list != want.list || line != want.line || ok != want.ok {
 			t.Errorf("P5.2: Where of %s: %q, %d, %v; not %q, %d, %v", name, list, line, ok, want.list, want.line, want.ok)
 		}
-		if got := Inner(err); got != want.inner {
+		if got := Inner(err); !alike(got, want.inner) {
 			t.Errorf("P5.2: Inner of %s: %#v, not %#v", name, got, want.inner)
 		}
 	}
@@ -390,6 +401,168 @@ func TestRingsThatCantBeCompared(t *testing.T) {
 			}
 			holdIs(t, name, err)
 		}
+	}
+}
+
+func TestLongRings(t *testing.T) {
+	for _, round := range []int{100, 1000, 100000} {
+		a := ring(round, round)
+		name := fmt.Sprintf("a ring of %d", round)
+		hold(t, name, a, told{api.ErrOther, a.List, a.Line, true, a.Err})
+		if Is(a, api.ErrLong) {
+			t.Errorf("P5.1: Is of %s", name)
+		}
+	}
+}
+
+// rowOf wraps several errors; it can't be compared with ==.
+type rowOf []error
+
+func (r rowOf) Error() string   { return "a row" }
+func (r rowOf) Unwrap() []error { return r }
+
+// anew wraps several errors, and makes their list anew each time.
+type anew struct{ in []error }
+
+func (a *anew) Error() string   { return "anew" }
+func (a *anew) Unwrap() []error { return append([]error(nil), a.in...) }
+
+// joins are the ways to wrap several errors.
+var joins = map[string]func(l ...error) error{
+	"Join":    func(l ...error) error { return errors.Join(l...) },
+	"a row":   func(l ...error) error { return rowOf(l) },
+	"anew":    func(l ...error) error { return &anew{l} },
+	"Errorf":  func(l ...error) error { return fmt.Errorf(strings.Repeat("%w ", len(l)), anys(l)...) },
+	"wrapped": func(l ...error) error { return fmt.Errorf("%w", wrapper{errors.Join(l...), nil}) },
+}
+
+func anys(l []error) []any {
+	var out []any
+	for _, err := range l {
+		out = append(out, err)
+	}
+	return out
+}
+
+func TestErrorsThatJoinThemselves(t *testing.T) {
+	for name, join := range joins {
+		// Errorf asks what it wraps for its word, so the ring is closed behind it.
+		a := &At{List: "x", Line: 1}
+		in := &At{"y", 2, nil}
+		a.Err = in
+		in.Err = join(a)
+		hold(t, "one that joins itself: "+name, a, told{api.ErrOther, "x", 1, true, in})
+		in.Err = join(plain, in, a)
+		hold(t, "one that joins itself and others: "+name, a, told{api.ErrOther, "x", 1, true, in})
+		if Is(a, api.ErrLong) || Is(a, api.OK) {
+			t.Errorf("P5.1: Is of one that joins itself: %s", name)
+		}
+	}
+}
+
+func TestNumbersAboutRings(t *testing.T) {
+	for name, join := range joins {
+		in := &At{List: "y", Line: 2}
+		a := &At{"x", 1, in}
+		want := told{api.ErrLong, "x", 1, true, in}
+		in.Err = join(api.ErrLong, a)
+		hold(t, "a number ahead of a ring: "+name, a, want)
+		in.Err = join(a, api.ErrLong)
+		hold(t, "a number behind a ring: "+name, a, want)
+		b := &At{List: "z", Line: 3}
+		b.Err = b
+		in.Err = join(plain, b, New("v", 4, join(a, New("w", 5, api.ErrLong), api.ErrMany)))
+		hold(t, "numbers behind rings: "+name, a, want)
+		for _, n := range numbers {
+			if Is(a, n) != (n == api.ErrLong || n == api.ErrMany) {
+				t.Errorf("P5.1: Is of numbers behind rings (%s) and %d", name, n)
+			}
+		}
+	}
+}
+
+// self is an error that wraps itself.
+type self struct{ name string }
+
+func (*self) Error() string   { return "self" }
+func (s *self) Unwrap() error { return s }
+
+// selves is an error that wraps itself, as one of several.
+type selves struct{ others []error }
+
+func (*selves) Error() string     { return "selves" }
+func (s *selves) Unwrap() []error { return append([]error{s}, s.others...) }
+
+// mirror is an error that wraps another like it, which wraps it.
+type mirror struct {
+	name  string
+	other *mirror
+}
+
+func (*mirror) Error() string   { return "mirror" }
+func (m *mirror) Unwrap() error { return m.other }
+
+func TestOutsidersThatWrapThemselves(t *testing.T) {
+	s := &self{"s"}
+	two := &mirror{name: "one"}
+	two.other = &mirror{"two", two}
+	for name, err := range map[string]error{"one that wraps itself": s, "two that wrap one another": two, "one that wraps itself among others": &selves{[]error{plain, s}}} {
+		hold(t, name, err, told{code: api.ErrOther, inner: err})
+		holdIs(t, name, err)
+		a := New("words", 3, err)
+		hold(t, "an *At about "+name, a, told{api.ErrOther, "words", 3, true, err})
+		holdIs(t, "an *At about "+name, a)
+		about := fmt.Errorf("%w", a)
+		hold(t, "one about an *At about "+name, about, told{api.ErrOther, "words", 3, true, err})
+		behind := errors.Join(err, a, api.ErrText)
+		hold(t, "an *At behind "+name, behind, told{api.ErrText, "words", 3, true, err})
+		holdIs(t, "an *At behind "+name, behind, api.ErrText)
+	}
+	l := &selves{[]error{New("x", 5, api.ErrHead)}}
+	hold(t, "an *At that such a one wraps, too", l, told{api.ErrHead, "x", 5, true, api.ErrHead})
+}
+
+// more wraps ever more.
+type more int
+
+func (m more) Error() string { return "more" }
+func (m more) Unwrap() error { return m + 1 }
+
+func TestEndlessOnes(t *testing.T) {
+	err := errors.Join(more(0), New("x", 1, api.ErrEnd))
+	if list, line, ok := Where(err); list != "x" || line != 1 || !ok {
+		t.Error("P5.2: Where behind an endless chain")
+	}
+}
+
+func TestSharedOnes(t *testing.T) {
+	for name, join := range joins {
+		if name == "anew" || name == "Errorf" {
+			continue // The one isn't known again, the other's word doubles each time.
+		}
+		err := plain
+		for range 80 {
+			err = join(err, err)
+		}
+		last := New("x", 7, join(plain, api.ErrCount))
+		behind := &At{"y", 0, join(err, last)}
+		hold(t, "what is shared: "+name, behind, told{api.ErrCount, "y", 0, true, behind.Err})
+		holdIs(t, "what is shared: "+name, behind, api.ErrCount)
+		if _, line, ok := Where(behind.Err); line != 7 || !ok {
+			t.Errorf("P5.2: Where behind what is shared: %s", name)
+		}
+	}
+}
+
+func TestDeepJoins(t *testing.T) {
+	defer debug.SetMaxStack(debug.SetMaxStack(1 << 24))
+	var err error = New("deep", 9, api.ErrName)
+	for range 300000 {
+		err = errors.Join(err)
+	}
+	hold(t, "deep joins", err, told{api.ErrName, "deep", 9, true, api.ErrName})
+	if !Is(err, api.ErrName) || Is(err, api.ErrOrder) {
+		t.Error("P5.1: Is of deep joins")
 	}
 }
 
