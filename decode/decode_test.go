@@ -3,6 +3,7 @@ package decode
 import (
 	"bytes"
 	"math"
+	"math/big"
 	"math/rand"
 	"regexp"
 	"slices"
@@ -821,6 +822,24 @@ func TestLiteral(t *testing.T) {
 		{"ab", []api.Unit{unit('a', 0, 0)}, false},
 		{"ab", []api.Unit{unit(-1, 1, 0)}, true},
 		{"ab", []api.Unit{unit(-1, 2, 0)}, true},
+		// The last one's end is asked for alone, not where its span lies.
+		{"ab", []api.Unit{unit('a', 0, 1), unit('b', 3, -1)}, true},
+		{"ab", []api.Unit{unit('a', 0, 1), unit('b', -1, 3)}, true},
+		{"ab", []api.Unit{unit('a', 0, 1), unit('b', 2, 0)}, true},
+		{"ab", []api.Unit{unit('a', 0, 1), unit('b', 0, 2)}, true},
+		{"ab", []api.Unit{unit('a', 0, 1), unit('b', 9, -7)}, true},
+		{"ab", []api.Unit{unit('a', 0, 1), unit('b', -7, 9)}, true},
+		{"ab", []api.Unit{unit('a', 0, 1), unit('b', math.MaxInt, 2-math.MaxInt)}, true},
+		{"ab", []api.Unit{unit('a', 0, 1), unit('b', 2-math.MaxInt, math.MaxInt)}, true},
+		{"ab", []api.Unit{unit('a', 0, 1), unit('b', 2, -1)}, false},
+		{"ab", []api.Unit{unit('a', 0, 9), unit(-1, 2, -1)}, true},
+		{"ab", []api.Unit{unit('a', 0, 9), unit(-1, -1, 2)}, true},
+		{"ab", []api.Unit{unit('b', 1, 0), unit(-1, 3, -1)}, true},
+		{"ab", []api.Unit{unit(-1, 2, 0), unit(-1, 3, -1)}, true},
+		{"ab", []api.Unit{unit(-1, 0, 0), unit(-1, math.MaxInt, -math.MaxInt)}, true},
+		{"ab", []api.Unit{unit(-1, 0, 0), unit(-1, -math.MaxInt, math.MaxInt)}, true},
+		{"", []api.Unit{unit(-1, 0, 0), unit(-1, 1, -1)}, true},
+		{"", []api.Unit{unit(-1, 0, 0), unit(-1, -1, 1)}, true},
 	} {
 		if got := Literal([]byte(c.text), c.l); got != c.want {
 			t.Errorf("P15.3: Literal(%q, %v): %t", c.text, c.l, got)
@@ -836,8 +855,13 @@ func TestLiteralWithoutSuchBytes(t *testing.T) {
 		{unit('a', 0, 1), unit('b', 1, 2)}, {unit('a', 0, 1), unit('b', 2, 1)}, {unit('a', -1, 1), unit('b', 0, 1)}, {unit('a', -1, 1), unit('b', 1, 1)}, {unit('a', 2, 1), unit('b', 1, 1)},
 		{unit('a', math.MaxInt, 1)}, {unit('a', 1, math.MaxInt)}, {unit('a', math.MaxInt, math.MaxInt)}, {unit('a', math.MinInt, 1)}, {unit('a', 0, math.MinInt)}, {unit('a', math.MinInt, math.MinInt)},
 		{unit('a', 0, 1), unit('b', math.MaxInt, 1)}, {unit('a', math.MinInt, 1), unit('b', 1, 1)}, {unit('a', math.MaxInt, 1), unit('b', 1, 1)},
-		// Added up, they come to a place that is there.
-		{unit('a', 0, 1), unit('b', 3, -1)}, {unit('a', 0, 1), unit('b', -1, 3)}, {unit('a', 0, 1), unit('b', math.MaxInt, math.MinInt+3)},
+		// The end is behind the bytes, below 0, or ahead of where the first begins, though At or Len alone is a place of theirs.
+		{unit('a', 0, 1), unit('b', 4, -1)}, {unit('a', 0, 1), unit('b', -1, 4)}, {unit('a', 0, 1), unit('b', 0, -1)}, {unit(-1, 0, 1), unit(-1, -1, 0)},
+		{unit('a', 1, 1), unit(-1, 3, -3)}, {unit(-1, 2, 0), unit(-1, 2, -1)}, {unit(-1, 2, 0), unit(-1, -1, 2)}, {unit('a', -1, 1), unit('b', 3, -1)},
+		{unit(-1, 0, 0), unit(-1, math.MaxInt, math.MinInt)}, {unit(-1, 0, 0), unit(-1, math.MinInt, math.MaxInt)}, {unit('a', 0, 1), unit('b', math.MaxInt, 3-math.MaxInt)}, {unit('a', 0, 1), unit('b', 3-math.MaxInt, math.MaxInt)},
+		{unit('a', 0, 1), unit('b', 1, 1), unit('c', 4, -1)}, {unit('a', 0, 1), unit('b', 1, 1), unit('c', -1, 4)}, {unit('b', 1, 1), unit('c', math.MaxInt, 3-math.MaxInt)},
+		// Sums that wrap round come to places that are there.
+		{unit(-1, 0, 0), unit(-1, math.MinInt, math.MinInt)}, {unit('a', 0, 1), unit('b', math.MinInt, math.MinInt+2)}, {unit('a', 0, 1), unit('b', math.MinInt+1, math.MinInt+1)}, {unit(-1, 0, 0), unit(-1, -1, math.MinInt)},
 	} {
 		// What would be wanted stands in the room behind.
 		if Literal([]byte("abc")[:2], l) {
@@ -851,7 +875,7 @@ func TestLiteralWithoutSuchBytes(t *testing.T) {
 
 func TestLiteralOfAnyUnits(t *testing.T) {
 	r := rand.New(rand.NewSource(18))
-	ends := []int{math.MinInt, -1, 0, 0, 1, 1, 2, 3, 4, 5, math.MaxInt}
+	ends := []int{math.MinInt, math.MinInt + 1, math.MinInt + 2, -3, -2, -1, -1, 0, 0, 1, 1, 2, 3, 4, 5, math.MaxInt - 1, math.MaxInt}
 	runes := []rune{'a', 'a', 'b', 0xe4, -1, 0xd800, 0x110000}
 	for range 300000 {
 		text := []string{"", "a", "aa", "ab", "a\u00e4b", "\xff\xc3\xa4"}[r.Intn(6)]
@@ -860,9 +884,11 @@ func TestLiteralOfAnyUnits(t *testing.T) {
 			l = append(l, unit(runes[r.Intn(len(runes))], ends[r.Intn(len(ends))], ends[r.Intn(len(ends))]))
 		}
 		from, last := l[0].Span.At, l[len(l)-1].Span
+		// Numbers without an end have room for every sum.
+		end := new(big.Int).Add(big.NewInt(int64(last.At)), big.NewInt(int64(last.Len)))
 		want := false
-		if last.At >= 0 && last.Len >= 0 && last.At <= len(text) && last.Len <= len(text)-last.At {
-			to := last.At + last.Len
+		if end.Sign() >= 0 && end.Cmp(big.NewInt(int64(len(text)))) <= 0 {
+			to := int(end.Int64())
 			want = from >= 0 && from <= to && text[from:to] == textOf(l)
 		}
 		before := slices.Clone(l)
